@@ -1,0 +1,35 @@
+package pack
+
+import (
+	"sift/api"
+	"sift/wire"
+)
+
+// mark is what the file of some docs begins with.
+const mark = "S"
+
+// Write gives the file of texts that are in the rising order of their ids.
+func Write(texts []api.Text) []byte {
+	t := tableOf(texts)
+	var w wire.Writer
+	w.Text(mark)
+	w.Number(len(t.ids))
+	w.Rising(t.ids)
+	w.Number(len(t.terms))
+	for term, list := range t.postings() {
+		writeTerm(&w, t.terms[term], list)
+	}
+	return w.Sealed()
+}
+
+func writeTerm(w *wire.Writer, term string, list []posting) {
+	w.Number(len(term))
+	w.Text(term)
+	w.Number(len(list))
+	var docs wire.Rise
+	for _, p := range list {
+		w.Entry(&docs, p.doc)
+		w.Number(len(p.places))
+		w.Rising(p.places)
+	}
+}

@@ -1,0 +1,112 @@
+// Package sift: finding texts by their words, while they come and go: see DOC.md.
+package sift
+
+import (
+	"sift/api"
+	"sift/ask"
+	"sift/pack"
+	"sift/words"
+)
+
+// Index keeps texts.
+type Index struct{}
+
+// Words gives the words of a text (P3).
+func Words(body string) ([]string, api.Errno) {
+	if len(body) > api.MaxBody {
+		return nil, api.ErrLong
+	}
+	return words.Split(body), api.OK
+}
+
+// Check tells whether a text is a query (P4).
+func Check(query string) (api.Errno, int) {
+	if len(query) > api.MaxQuery {
+		return api.ErrLong, 0
+	}
+	if whole, place := ask.Check(query); !whole {
+		return api.ErrQuery, place
+	}
+	return api.OK, 0
+}
+
+// Pack gives the file of some docs (P5).
+func Pack(docs []api.Doc) ([]byte, api.Errno) {
+	if len(docs) > api.MaxDocs {
+		return nil, api.ErrFull
+	}
+	sorted := byId(docs)
+	if !idsMayBe(sorted) {
+		return nil, api.ErrId
+	}
+	texts, err := textsOf(sorted)
+	if err != api.OK {
+		return nil, err
+	}
+	return pack.Write(texts), api.OK
+}
+
+// Read gives the docs of a file (P5).
+func Read(file []byte) ([]api.Text, api.Errno) {
+	texts, ok := pack.Read(file)
+	if !ok {
+		return nil, api.ErrForm
+	}
+	return texts, api.OK
+}
+
+// New makes an index (P6).
+func New(c api.Config) (*Index, api.Errno) { return nil, api.OK }
+
+// Add puts a text in (P7).
+func (x *Index) Add(id int, body string) api.Errno { return api.OK }
+
+// Delete takes a text away (P7).
+func (x *Index) Delete(id int) api.Errno { return api.OK }
+
+// Len tells how many texts there are (P6).
+func (x *Index) Len() (int, api.Errno) { return 0, api.OK }
+
+// Flush makes a segment of the gathered texts (P8).
+func (x *Index) Flush() (bool, api.Errno) { return false, api.OK }
+
+// Segments tells of the segments (P8).
+func (x *Index) Segments() ([]api.Segment, api.Errno) { return nil, api.OK }
+
+// Open opens a reader (P9).
+func (x *Index) Open() (int, api.Errno) { return 0, api.OK }
+
+// Close closes a reader (P9).
+func (x *Index) Close(reader int) api.Errno { return api.OK }
+
+// Search finds texts (P10).
+func (x *Index) Search(reader int, query string, after int, limit int) (api.Found, api.Errno) {
+	return api.Found{}, api.OK
+}
+
+// Start begins a merge (P11).
+func (x *Index) Start() (bool, api.Errno) { return false, api.OK }
+
+// Finish ends a merge (P12).
+func (x *Index) Finish() (bool, api.Errno) { return false, api.OK }
+
+// Abandon gives a merge up (P12).
+func (x *Index) Abandon() (bool, api.Errno) { return false, api.OK }
+
+// Commit makes what there is last (P13).
+func (x *Index) Commit() api.Errno { return api.OK }
+
+// Break lets the index go down later (P14).
+func (x *Index) Break(n int) api.Errno { return api.OK }
+
+// Recover brings the index up again (P15).
+func (x *Index) Recover() api.Errno { return api.OK }
+
+// Files tells the names of all files (P16).
+func (x *Index) Files() []string { return nil }
+
+// Load makes an index of the files of a commit (P17).
+func Load(c api.Config, names []string, files [][]byte) (*Index, api.Errno) { return nil, api.OK }
+
+// File gives the bytes of a file (P16).
+func (x *Index) File(name string) ([]byte, api.Errno) { return nil, api.OK }
