@@ -2,6 +2,7 @@ package pack
 
 import (
 	"sift/api"
+	"sift/table"
 	"sift/wire"
 	"sift/words"
 )
@@ -20,8 +21,8 @@ func Read(file []byte) ([]api.Text, bool) {
 	if !r.Done() {
 		return nil, false
 	}
-	texts := t.texts()
-	if !mayBe(texts, len(t.at)) {
+	texts := t.Texts()
+	if !mayBe(texts, len(t.At)) {
 		return nil, false
 	}
 	return texts, true
@@ -39,43 +40,43 @@ func mayBe(texts []api.Text, count int) bool {
 	return count == 0
 }
 
-func readTable(r *wire.Reader) table {
+func readTable(r *wire.Reader) table.Table {
 	if r.Text(len(mark)) != mark {
 		r.Fail()
 	}
-	t := table{at: make(map[spot]int)}
-	t.ids = r.Rising(r.Number(0, api.MaxDocs), api.MaxId)
+	t := table.Table{At: make(map[table.Spot]int)}
+	t.Ids = r.Rising(r.Number(0, api.MaxDocs), api.MaxId)
 	for range r.Number(0, maxTerms) {
-		t.readTerm(r)
+		readTerm(r, &t)
 	}
 	return t
 }
 
-func (t *table) readTerm(r *wire.Reader) {
+func readTerm(r *wire.Reader, t *table.Table) {
 	term := r.Text(r.Number(1, api.MaxWord))
-	if !words.Is(term) || !t.isNext(term) {
+	if !words.Is(term) || !isNext(term, t.Terms) {
 		r.Fail()
 	}
-	t.terms = append(t.terms, term)
+	t.Terms = append(t.Terms, term)
 	var docs wire.Rise
-	for range r.Number(1, len(t.ids)) {
-		t.readPlaces(r, r.Entry(&docs, len(t.ids)-1))
+	for range r.Number(1, len(t.Ids)) {
+		readPlaces(r, t, r.Entry(&docs, len(t.Ids)-1))
 	}
 }
 
-func (t *table) isNext(term string) bool {
-	count := len(t.terms)
-	return count == 0 || t.terms[count-1] < term
+func isNext(term string, terms []string) bool {
+	count := len(terms)
+	return count == 0 || terms[count-1] < term
 }
 
 // readPlaces reads at which places of a doc the last term stands.
-func (t *table) readPlaces(r *wire.Reader, doc int) {
+func readPlaces(r *wire.Reader, t *table.Table, doc int) {
 	count := r.Number(1, maxPlaces)
 	for _, place := range r.Rising(count, maxPlaces-1) {
-		s := spot{doc, place}
-		if _, taken := t.at[s]; taken {
+		s := table.Spot{Doc: doc, Place: place}
+		if _, taken := t.At[s]; taken {
 			r.Fail()
 		}
-		t.at[s] = len(t.terms) - 1
+		t.At[s] = len(t.Terms) - 1
 	}
 }

@@ -1,7 +1,9 @@
+// Package pack: the file of some docs.
 package pack
 
 import (
 	"sift/api"
+	"sift/table"
 	"sift/wire"
 )
 
@@ -10,14 +12,14 @@ const mark = "S"
 
 // Write gives the file of texts that are in the rising order of their ids.
 func Write(texts []api.Text) []byte {
-	t := tableOf(texts)
+	t := table.Of(texts)
 	var w wire.Writer
 	w.Text(mark)
-	w.Number(len(t.ids))
-	w.Rising(t.ids)
-	w.Number(len(t.terms))
-	for term, list := range t.postings() {
-		writeTerm(&w, t.terms[term], list)
+	w.Number(len(t.Ids))
+	w.Rising(t.Ids)
+	w.Number(len(t.Terms))
+	for term, list := range postings(t) {
+		writeTerm(&w, t.Terms[term], list)
 	}
 	return w.Sealed()
 }

@@ -15,10 +15,14 @@ func byId(docs []api.Doc) []api.Doc {
 	return sorted
 }
 
+func idMayBe(id int) bool {
+	return id >= 0 && id <= api.MaxId
+}
+
 // idsMayBe tells whether the ids of sorted docs are ids, and different ones.
 func idsMayBe(sorted []api.Doc) bool {
 	for i, doc := range sorted {
-		if doc.Id < 0 || doc.Id > api.MaxId || i > 0 && sorted[i-1].Id == doc.Id {
+		if !idMayBe(doc.Id) || i > 0 && sorted[i-1].Id == doc.Id {
 			return false
 		}
 	}

@@ -8,9 +8,6 @@ import (
 	"sift/words"
 )
 
-// Index keeps texts.
-type Index struct{}
-
 // Words gives the words of a text (P3).
 func Words(body string) ([]string, api.Errno) {
 	if len(body) > api.MaxBody {
@@ -21,13 +18,20 @@ func Words(body string) ([]string, api.Errno) {
 
 // Check tells whether a text is a query (P4).
 func Check(query string) (api.Errno, int) {
+	_, err, place := readQuery(query)
+	return err, place
+}
+
+// readQuery gives what a query asks, or what Check tells of a text that is none.
+func readQuery(query string) (ask.Query, api.Errno, int) {
 	if len(query) > api.MaxQuery {
-		return api.ErrLong, 0
+		return ask.Query{}, api.ErrLong, 0
 	}
-	if whole, place := ask.Check(query); !whole {
-		return api.ErrQuery, place
+	asked, whole, place := ask.Read(query)
+	if !whole {
+		return ask.Query{}, api.ErrQuery, place
 	}
-	return api.OK, 0
+	return asked, api.OK, 0
 }
 
 // Pack gives the file of some docs (P5).
@@ -56,32 +60,97 @@ func Read(file []byte) ([]api.Text, api.Errno) {
 }
 
 // New makes an index (P6).
-func New(c api.Config) (*Index, api.Errno) { return nil, api.OK }
+func New(c api.Config) (*Index, api.Errno) {
+	if !settingsMayBe(c) {
+		return nil, api.ErrConfig
+	}
+	return emptyIndex(c), api.OK
+}
 
 // Add puts a text in (P7).
-func (x *Index) Add(id int, body string) api.Errno { return api.OK }
+func (x *Index) Add(id int, body string) api.Errno {
+	if !idMayBe(id) {
+		return api.ErrId
+	}
+	list, err := Words(body)
+	if err != api.OK {
+		return err
+	}
+	if !x.has(id) && x.size() == api.MaxDocs {
+		return api.ErrFull
+	}
+	x.drop(id)
+	x.gather(api.Text{Id: id, Words: list})
+	if len(x.gathered) == x.settings.Buffer {
+		x.flush()
+	}
+	return api.OK
+}
 
 // Delete takes a text away (P7).
-func (x *Index) Delete(id int) api.Errno { return api.OK }
+func (x *Index) Delete(id int) api.Errno {
+	if !idMayBe(id) {
+		return api.ErrId
+	}
+	if !x.has(id) {
+		return api.ErrNone
+	}
+	x.drop(id)
+	return api.OK
+}
 
 // Len tells how many texts there are (P6).
-func (x *Index) Len() (int, api.Errno) { return 0, api.OK }
+func (x *Index) Len() (int, api.Errno) {
+	return x.size(), api.OK
+}
 
 // Flush makes a segment of the gathered texts (P8).
-func (x *Index) Flush() (bool, api.Errno) { return false, api.OK }
+func (x *Index) Flush() (bool, api.Errno) {
+	return x.flush(), api.OK
+}
 
 // Segments tells of the segments (P8).
-func (x *Index) Segments() ([]api.Segment, api.Errno) { return nil, api.OK }
+func (x *Index) Segments() ([]api.Segment, api.Errno) {
+	var list []api.Segment
+	for _, p := range x.parts {
+		list = append(list, p.segment.About(p.dead))
+	}
+	return list, api.OK
+}
 
 // Open opens a reader (P9).
-func (x *Index) Open() (int, api.Errno) { return 0, api.OK }
+func (x *Index) Open() (int, api.Errno) {
+	reader, free := x.freeReader()
+	if !free {
+		return 0, api.ErrFull
+	}
+	x.flush()
+	x.readers[reader] = viewOf(x.parts)
+	return reader, api.OK
+}
 
 // Close closes a reader (P9).
-func (x *Index) Close(reader int) api.Errno { return api.OK }
+func (x *Index) Close(reader int) api.Errno {
+	if !x.isOpen(reader) {
+		return api.ErrReader
+	}
+	x.readers[reader] = nil
+	return api.OK
+}
 
 // Search finds texts (P10).
 func (x *Index) Search(reader int, query string, after int, limit int) (api.Found, api.Errno) {
-	return api.Found{}, api.OK
+	if !x.isOpen(reader) {
+		return api.Found{}, api.ErrReader
+	}
+	asked, err, _ := readQuery(query)
+	if err != api.OK {
+		return api.Found{}, err
+	}
+	if limit < 1 || limit > api.MaxLimit {
+		return api.Found{}, api.ErrArg
+	}
+	return foundOf(x.readers[reader].find(asked), after, limit), api.OK
 }
 
 // Start begins a merge (P11).

@@ -1,0 +1,65 @@
+// Package segment: docs that stay as they are, and how they are found by their words.
+package segment
+
+import (
+	"sift/api"
+	"sift/dict"
+	"sift/pack"
+	"sift/set"
+	"sift/table"
+)
+
+// Segment has docs. It never changes: which of them are dead is kept by those who have it.
+type Segment struct {
+	number int
+	docs   table.Table
+	terms  dict.Dictionary
+	having []set.Set // for each term the docs that have it
+	bytes  int       // of the file of its docs
+}
+
+// Of makes a segment of texts that are in the rising order of their ids.
+func Of(number int, texts []api.Text) *Segment {
+	docs := table.Of(texts)
+	return &Segment{
+		number: number,
+		docs:   docs,
+		terms:  dict.Of(docs.Terms),
+		having: havingOf(docs),
+		bytes:  len(pack.Write(texts)),
+	}
+}
+
+func havingOf(docs table.Table) []set.Set {
+	having := make([]set.Set, len(docs.Terms))
+	for spot, term := range docs.At {
+		having[term] = having[term].With(spot.Doc)
+	}
+	return having
+}
+
+// About tells of the segment, of which some docs are dead.
+func (s *Segment) About(dead set.Set) api.Segment {
+	return api.Segment{
+		Number: s.number,
+		Docs:   len(s.docs.Ids),
+		Dead:   dead.Len(),
+		Terms:  len(s.docs.Terms),
+		States: s.terms.States(),
+		Bytes:  s.bytes,
+	}
+}
+
+// All gives all docs of the segment.
+func (s *Segment) All() set.Set {
+	return set.First(len(s.docs.Ids))
+}
+
+// Ids gives the ids of some of the docs, rising.
+func (s *Segment) Ids(docs set.Set) []int {
+	var list []int
+	for doc := range docs.Places() {
+		list = append(list, s.docs.Ids[doc])
+	}
+	return list
+}

@@ -1,0 +1,181 @@
+package sift_test
+
+import (
+	"math/rand"
+	"reflect"
+	"slices"
+	"strings"
+	"testing"
+
+	"sift/api"
+	"sift/sift"
+)
+
+// pair is an index and the model that it must answer like.
+type pair struct {
+	t      *testing.T
+	index  *sift.Index
+	model  *model
+	random *rand.Rand
+	ids    int // ids are drawn below it
+}
+
+func (p *pair) id() int {
+	switch p.random.Intn(40) {
+	case 0:
+		return []int{-1, 100000, 1<<63 - 1, -1 << 63}[p.random.Intn(4)]
+	case 1:
+		return 99999
+	}
+	return p.random.Intn(p.ids)
+}
+
+func (p *pair) body() string {
+	if p.random.Intn(30) == 0 {
+		return strings.Repeat("ab ", 40+p.random.Intn(2))
+	}
+	words := []string{"a", "b", "ab", "ba", "abc", "c1", "Abcdefgh", "abcdefghij", "9", ""}
+	var list []string
+	for range p.random.Intn(6) {
+		list = append(list, words[p.random.Intn(len(words))])
+	}
+	return strings.Join(list, []string{" ", "; ", "\x00"}[p.random.Intn(3)])
+}
+
+func (p *pair) query() string {
+	word := func() string { return []string{"a", "b", "ab", "abc", "c1", "abcdefgh", "z"}[p.random.Intn(7)] }
+	var draw func(size, depth int) string
+	draw = func(size, depth int) string {
+		switch kind := p.random.Intn(9); {
+		case kind < 2 && size > 0:
+			return draw(size-1, depth) + "&" + draw(size-1, depth)
+		case kind < 4 && size > 0:
+			return draw(size-1, depth) + "|" + draw(size-1, depth)
+		case kind < 5 && depth < 5:
+			return "(" + draw(size, depth+1) + ")"
+		case kind < 6:
+			return word() + "*"
+		case kind < 7:
+			return `"` + word() + " " + word() + `"`
+		case kind < 8:
+			return `"` + word() + `"`
+		}
+		return strings.Repeat("!", p.random.Intn(2)*min(1, 5-depth)) + word()
+	}
+	if p.random.Intn(20) == 0 {
+		return []string{"", "a&", "A", `"a`, strings.Repeat("a|", 30) + "a"}[p.random.Intn(5)]
+	}
+	return draw(2, 0)
+}
+
+// step does something to both, and holds what they answer against each other.
+func (p *pair) step() {
+	switch p.random.Intn(12) {
+	case 0, 1, 2, 3, 4:
+		id, body := p.id(), p.body()
+		p.same("Add", p.index.Add(id, body), p.model.add(id, body))
+	case 5, 6, 7:
+		id := p.id()
+		p.same("Delete", p.index.Delete(id), p.model.remove(id))
+	case 8:
+		flushed, err := p.index.Flush()
+		p.same("Flush", flushed, p.model.flush())
+		p.same("Flush", err, api.OK)
+	case 9:
+		reader, err := p.index.Open()
+		wantReader, wantErr := p.model.open()
+		p.same("Open", reader, wantReader)
+		p.same("Open", err, wantErr)
+	case 10:
+		reader := p.random.Intn(6) - 1
+		p.same("Close", p.index.Close(reader), p.model.close(reader))
+	case 11:
+		p.search(p.random.Intn(6)-1, []int{-1, 0, 51, 1 << 62}[p.random.Intn(4)])
+	}
+}
+
+func (p *pair) search(reader, limit int) {
+	p.t.Helper()
+	query, after := p.query(), p.random.Intn(p.ids+2)-1
+	found, err := p.index.Search(reader, query, after, limit)
+	want, wantErr := p.model.search(reader, query, after, limit)
+	if err != wantErr || found.Total != want.Total || !slices.Equal(found.Ids, want.Ids) {
+		p.t.Fatalf("Search(%d, %q, %d, %d) = %v, %d, want %v, %d", reader, query, after, limit, found, err, want, wantErr)
+	}
+	if err != api.OK && found.Ids != nil {
+		p.t.Fatalf("Search gives a list with the error %d", err)
+	}
+}
+
+// look holds all that can be seen of both against each other.
+func (p *pair) look() {
+	p.t.Helper()
+	count, err := p.index.Len()
+	p.same("Len", count, len(p.model.texts()))
+	p.same("Len", err, api.OK)
+	list, err := p.index.Segments()
+	p.same("Segments", err, api.OK)
+	if want := p.model.about(); !slices.Equal(list, want) {
+		p.t.Fatalf("Segments = %+v, want %+v", list, want)
+	}
+	for reader := range p.model.readers {
+		p.search(reader, 1+p.random.Intn(50))
+	}
+}
+
+func (p *pair) same(name string, got, want any) {
+	p.t.Helper()
+	if !reflect.DeepEqual(got, want) {
+		p.t.Fatalf("%s = %v, want %v", name, got, want)
+	}
+}
+
+func drawnPair(t *testing.T, random *rand.Rand) *pair {
+	c := api.Config{Buffer: 1 + random.Intn(8), Factor: 2 + random.Intn(3)}
+	x, err := sift.New(c)
+	if x == nil || err != api.OK {
+		t.Fatalf("New(%v) = %v, %d", c, x, err)
+	}
+	return &pair{t: t, index: x, model: newModel(c), random: random, ids: []int{6, 20, 100}[random.Intn(3)]}
+}
+
+// Whatever is done to an index, wrong inputs among it, it answers like the model.
+func TestP6ToP10Drawn(t *testing.T) {
+	random := rand.New(rand.NewSource(4))
+	for range 100 {
+		p := drawnPair(t, random)
+		for range 120 {
+			p.step()
+			p.look()
+		}
+	}
+}
+
+// The same with so many texts that there is no more room for others.
+func TestP7FullDrawn(t *testing.T) {
+	random := rand.New(rand.NewSource(5))
+	for range 10 {
+		p := drawnPair(t, random)
+		p.ids = 90
+		for id := range 60 {
+			p.same("Add", p.index.Add(id, "a"), p.model.add(id, "a"))
+		}
+		for range 60 {
+			p.step()
+			p.look()
+		}
+	}
+}
+
+// Indexes do not change one another: what is done to one in turns with others is answered
+// like what is done to it alone.
+func TestP2Indexes(t *testing.T) {
+	random := rand.New(rand.NewSource(6))
+	pairs := []*pair{drawnPair(t, random), drawnPair(t, random), drawnPair(t, random)}
+	for range 600 {
+		pairs[random.Intn(3)].step()
+		for _, p := range pairs {
+			p.look()
+		}
+	}
+}

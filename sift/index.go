@@ -1,0 +1,91 @@
+package sift
+
+import (
+	"cmp"
+	"slices"
+
+	"sift/api"
+	"sift/segment"
+	"sift/set"
+)
+
+// Index keeps texts.
+type Index struct {
+	settings api.Config
+	gathered []api.Text   // in the rising order of their ids
+	parts    []*part      // by the numbers of their segments
+	homes    map[int]home // of the texts that are in segments, by their ids
+	next     int          // the number of the next segment
+	readers  [api.MaxReaders]*view
+}
+
+// part is a segment of an index, with those of its docs that are dead.
+type part struct {
+	segment *segment.Segment
+	dead    set.Set
+}
+
+// home is where a text is.
+type home struct {
+	part *part
+	doc  int // its place there
+}
+
+func settingsMayBe(c api.Config) bool {
+	return c.Buffer >= 1 && c.Buffer <= api.MaxBuffer && c.Factor >= 2 && c.Factor <= api.MaxFactor
+}
+
+func emptyIndex(c api.Config) *Index {
+	return &Index{settings: c, homes: make(map[int]home)}
+}
+
+func (x *Index) size() int {
+	return len(x.gathered) + len(x.homes)
+}
+
+func (x *Index) has(id int) bool {
+	_, isGathered := x.gatheredAt(id)
+	_, isHome := x.homes[id]
+	return isGathered || isHome
+}
+
+// gatheredAt gives the place of an id among the gathered texts, and whether it has one there.
+func (x *Index) gatheredAt(id int) (int, bool) {
+	return slices.BinarySearchFunc(x.gathered, id, func(text api.Text, id int) int { return cmp.Compare(text.Id, id) })
+}
+
+func (x *Index) gather(text api.Text) {
+	at, _ := x.gatheredAt(text.Id)
+	x.gathered = slices.Insert(x.gathered, at, text)
+}
+
+// drop lets the text of an id go, if there is one.
+func (x *Index) drop(id int) {
+	if at, found := x.gatheredAt(id); found {
+		x.gathered = slices.Delete(x.gathered, at, at+1)
+	}
+	if h, found := x.homes[id]; found {
+		h.part.dead = h.part.dead.With(h.doc)
+		delete(x.homes, id)
+	}
+}
+
+// flush makes a segment of the gathered texts, and tells whether there were any.
+func (x *Index) flush() bool {
+	if len(x.gathered) == 0 {
+		return false
+	}
+	x.lay(x.gathered)
+	x.gathered = nil
+	return true
+}
+
+// lay makes the newest segment, of texts in the rising order of their ids.
+func (x *Index) lay(texts []api.Text) {
+	p := &part{segment: segment.Of(x.next, texts)}
+	x.parts = append(x.parts, p)
+	x.next++
+	for doc, text := range texts {
+		x.homes[text.Id] = home{p, doc}
+	}
+}
