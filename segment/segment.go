@@ -42,7 +42,7 @@ func havingOf(docs table.Table) []set.Set {
 func (s *Segment) About(dead set.Set) api.Segment {
 	return api.Segment{
 		Number: s.number,
-		Docs:   len(s.docs.Ids),
+		Docs:   s.Len(),
 		Dead:   dead.Len(),
 		Terms:  len(s.docs.Terms),
 		States: s.terms.States(),
@@ -50,9 +50,19 @@ func (s *Segment) About(dead set.Set) api.Segment {
 	}
 }
 
+// Len tells how many docs the segment has.
+func (s *Segment) Len() int {
+	return len(s.docs.Ids)
+}
+
+// Text gives a doc, with a list of words of its own.
+func (s *Segment) Text(doc int) api.Text {
+	return s.docs.Text(doc)
+}
+
 // All gives all docs of the segment.
 func (s *Segment) All() set.Set {
-	return set.First(len(s.docs.Ids))
+	return set.First(s.Len())
 }
 
 // Ids gives the ids of some of the docs, rising.

@@ -25,6 +25,11 @@ func (s Set) With(place int) Set {
 	return s | 1<<place
 }
 
+// Has tells whether a doc is in the set.
+func (s Set) Has(place int) bool {
+	return s>>place&1 == 1
+}
+
 // Len tells how many docs are in the set.
 func (s Set) Len() int {
 	return bits.OnesCount64(uint64(s))

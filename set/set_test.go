@@ -14,6 +14,11 @@ func TestSets(t *testing.T) {
 		if got := slices.Collect(s.Places()); !slices.Equal(got, places) || s.Len() != len(places) {
 			t.Errorf("the set of %v has %v, %d of them", places, got, s.Len())
 		}
+		for place := range 60 {
+			if s.Has(place) != slices.Contains(places, place) {
+				t.Errorf("Has(%d) of the set of %v is %v", place, places, s.Has(place))
+			}
+		}
 	}
 }
 

@@ -17,7 +17,7 @@ type pair struct {
 	index  *sift.Index
 	model  *model
 	random *rand.Rand
-	ids    int // ids are drawn below it
+	ids    int // so many different ones are drawn
 }
 
 func (p *pair) id() int {
@@ -27,7 +27,17 @@ func (p *pair) id() int {
 	case 1:
 		return 99999
 	}
-	return p.random.Intn(p.ids)
+	return p.commonId()
+}
+
+func (p *pair) commonId() int {
+	return spread(p.random.Intn(p.ids))
+}
+
+// spread makes small ids and great ones: how far the ids of a segment lie apart shows in
+// its bytes.
+func spread(id int) int {
+	return id + id%2*50000
 }
 
 func (p *pair) body() string {
@@ -70,7 +80,7 @@ func (p *pair) query() string {
 
 // step does something to both, and holds what they answer against each other.
 func (p *pair) step() {
-	switch p.random.Intn(12) {
+	switch p.random.Intn(17) {
 	case 0, 1, 2, 3, 4:
 		id, body := p.id(), p.body()
 		p.same("Add", p.index.Add(id, body), p.model.add(id, body))
@@ -91,12 +101,32 @@ func (p *pair) step() {
 		p.same("Close", p.index.Close(reader), p.model.close(reader))
 	case 11:
 		p.search(p.random.Intn(6)-1, []int{-1, 0, 51, 1 << 62}[p.random.Intn(4)])
+	default:
+		p.mergeStep()
+	}
+}
+
+func (p *pair) mergeStep() {
+	switch p.random.Intn(5) {
+	case 0, 1:
+		started, err := p.index.Start()
+		want, wantErr := p.model.start()
+		p.same("Start", started, want)
+		p.same("Start", err, wantErr)
+	case 2, 3:
+		finished, err := p.index.Finish()
+		p.same("Finish", finished, p.model.finish())
+		p.same("Finish", err, api.OK)
+	case 4:
+		abandoned, err := p.index.Abandon()
+		p.same("Abandon", abandoned, p.model.abandon())
+		p.same("Abandon", err, api.OK)
 	}
 }
 
 func (p *pair) search(reader, limit int) {
 	p.t.Helper()
-	query, after := p.query(), p.random.Intn(p.ids+2)-1
+	query, after := p.query(), p.commonId()+p.random.Intn(3)-1
 	found, err := p.index.Search(reader, query, after, limit)
 	want, wantErr := p.model.search(reader, query, after, limit)
 	if err != wantErr || found.Total != want.Total || !slices.Equal(found.Ids, want.Ids) {
@@ -131,16 +161,16 @@ func (p *pair) same(name string, got, want any) {
 }
 
 func drawnPair(t *testing.T, random *rand.Rand) *pair {
-	c := api.Config{Buffer: 1 + random.Intn(8), Factor: 2 + random.Intn(3)}
-	x, err := sift.New(c)
-	if x == nil || err != api.OK {
-		t.Fatalf("New(%v) = %v, %d", c, x, err)
-	}
+	return pairOf(t, random, api.Config{Buffer: 1 + random.Intn(8), Factor: 2 + random.Intn(3)})
+}
+
+func pairOf(t *testing.T, random *rand.Rand, c api.Config) *pair {
+	x := newIndex(t, c.Buffer, c.Factor)
 	return &pair{t: t, index: x, model: newModel(c), random: random, ids: []int{6, 20, 100}[random.Intn(3)]}
 }
 
 // Whatever is done to an index, wrong inputs among it, it answers like the model.
-func TestP6ToP10Drawn(t *testing.T) {
+func TestP6ToP12Drawn(t *testing.T) {
 	random := rand.New(rand.NewSource(4))
 	for range 100 {
 		p := drawnPair(t, random)
@@ -158,12 +188,32 @@ func TestP7FullDrawn(t *testing.T) {
 		p := drawnPair(t, random)
 		p.ids = 90
 		for id := range 60 {
-			p.same("Add", p.index.Add(id, "a"), p.model.add(id, "a"))
+			p.same("Add", p.index.Add(spread(id), "a"), p.model.add(spread(id), "a"))
 		}
 		for range 60 {
 			p.step()
 			p.look()
 		}
+	}
+}
+
+// The same with so many merges of small segments that great ones are made, and merged too.
+func TestP12MergesDrawn(t *testing.T) {
+	random := rand.New(rand.NewSource(7))
+	greatest := 0
+	for range 60 {
+		p := pairOf(t, random, api.Config{Buffer: 1 + random.Intn(2), Factor: 2 + random.Intn(3)})
+		for range 150 {
+			p.step()
+			p.mergeStep()
+			p.look()
+		}
+		for _, s := range p.model.segments {
+			greatest = max(greatest, len(s.docs))
+		}
+	}
+	if greatest < 16 {
+		t.Errorf("the greatest segment has %d docs: too few for this test", greatest)
 	}
 }
 

@@ -16,6 +16,7 @@ type Index struct {
 	parts    []*part      // by the numbers of their segments
 	homes    map[int]home // of the texts that are in segments, by their ids
 	next     int          // the number of the next segment
+	merge    *merge       // the one under way, if any
 	readers  [api.MaxReaders]*view
 }
 
@@ -23,6 +24,10 @@ type Index struct {
 type part struct {
 	segment *segment.Segment
 	dead    set.Set
+}
+
+func (p *part) alive() set.Set {
+	return p.segment.All() &^ p.dead
 }
 
 // home is where a text is.
@@ -75,17 +80,18 @@ func (x *Index) flush() bool {
 	if len(x.gathered) == 0 {
 		return false
 	}
-	x.lay(x.gathered)
+	x.lay(x.gathered, 0)
 	x.gathered = nil
 	return true
 }
 
-// lay makes the newest segment, of texts in the rising order of their ids.
-func (x *Index) lay(texts []api.Text) {
-	p := &part{segment: segment.Of(x.next, texts)}
+// lay makes the newest segment, of texts in the rising order of their ids, some of which
+// may be dead.
+func (x *Index) lay(texts []api.Text, dead set.Set) {
+	p := &part{segment.Of(x.next, texts), dead}
 	x.parts = append(x.parts, p)
 	x.next++
-	for doc, text := range texts {
-		x.homes[text.Id] = home{p, doc}
+	for doc := range p.alive().Places() {
+		x.homes[texts[doc].Id] = home{p, doc}
 	}
 }

@@ -17,6 +17,14 @@ type model struct {
 	segments []*modelSegment
 	next     int
 	readers  map[int]map[int][]string
+	merging  []*modelSegment // none, if no merge is under way
+	moves    []modelMove
+}
+
+// modelMove is a doc that a merge takes over from a segment.
+type modelMove struct {
+	from *modelSegment
+	doc  api.Text
 }
 
 type modelSegment struct {
@@ -136,6 +144,78 @@ func (m *model) search(reader int, query string, after, limit int) (api.Found, a
 		}
 	}
 	return found, api.OK
+}
+
+// class gives the greatest power of Factor that is not above the number of docs: their order
+// is that of the classes.
+func (m *model) class(s *modelSegment) int {
+	power := 1
+	for power*m.settings.Factor <= len(s.docs) {
+		power *= m.settings.Factor
+	}
+	return power
+}
+
+func (m *model) start() (bool, api.Errno) {
+	if m.merging != nil {
+		return false, api.ErrBusy
+	}
+	for class := range 61 {
+		var list []*modelSegment
+		for _, s := range m.segments {
+			if m.class(s) == class && len(list) < m.settings.Factor {
+				list = append(list, s)
+			}
+		}
+		if len(list) == m.settings.Factor {
+			m.begin(list)
+			return true, api.OK
+		}
+	}
+	return false, api.OK
+}
+
+func (m *model) begin(list []*modelSegment) {
+	m.merging = list
+	for _, s := range list {
+		for _, doc := range s.docs {
+			if !s.dead[doc.Id] {
+				m.moves = append(m.moves, modelMove{s, doc})
+			}
+		}
+	}
+}
+
+func (m *model) finish() bool {
+	if m.merging == nil {
+		return false
+	}
+	var left []*modelSegment
+	for _, s := range m.segments {
+		if !slices.Contains(m.merging, s) {
+			left = append(left, s)
+		}
+	}
+	m.segments = left
+	if len(m.moves) > 0 {
+		s := &modelSegment{number: m.next, dead: map[int]bool{}}
+		for _, move := range m.moves {
+			s.docs = append(s.docs, move.doc)
+			if move.from.dead[move.doc.Id] {
+				s.dead[move.doc.Id] = true
+			}
+		}
+		slices.SortFunc(s.docs, func(a, b api.Text) int { return a.Id - b.Id })
+		m.segments = append(m.segments, s)
+		m.next++
+	}
+	return m.abandon()
+}
+
+func (m *model) abandon() bool {
+	wasUnderWay := m.merging != nil
+	m.merging, m.moves = nil, nil
+	return wasUnderWay
 }
 
 func (m *model) about() []api.Segment {

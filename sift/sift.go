@@ -154,13 +154,36 @@ func (x *Index) Search(reader int, query string, after int, limit int) (api.Foun
 }
 
 // Start begins a merge (P11).
-func (x *Index) Start() (bool, api.Errno) { return false, api.OK }
+func (x *Index) Start() (bool, api.Errno) {
+	if x.merge != nil {
+		return false, api.ErrBusy
+	}
+	parts := x.due()
+	if len(parts) == 0 {
+		return false, api.OK
+	}
+	x.merge = mergeOf(parts)
+	return true, api.OK
+}
 
 // Finish ends a merge (P12).
-func (x *Index) Finish() (bool, api.Errno) { return false, api.OK }
+func (x *Index) Finish() (bool, api.Errno) {
+	if x.merge == nil {
+		return false, api.OK
+	}
+	x.put(x.merge)
+	x.merge = nil
+	return true, api.OK
+}
 
 // Abandon gives a merge up (P12).
-func (x *Index) Abandon() (bool, api.Errno) { return false, api.OK }
+func (x *Index) Abandon() (bool, api.Errno) {
+	if x.merge == nil {
+		return false, api.OK
+	}
+	x.merge = nil
+	return true, api.OK
+}
 
 // Commit makes what there is last (P13).
 func (x *Index) Commit() api.Errno { return api.OK }

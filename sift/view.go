@@ -26,7 +26,7 @@ type share struct {
 func viewOf(parts []*part) *view {
 	v := &view{}
 	for _, p := range parts {
-		if docs := p.segment.All() &^ p.dead; docs != 0 {
+		if docs := p.alive(); docs != 0 {
 			v.shares = append(v.shares, share{p.segment, docs})
 		}
 	}

@@ -39,13 +39,19 @@ func Of(texts []api.Text) Table {
 // Texts gives the texts of a table. Each has a list of words of its own.
 func (t Table) Texts() []api.Text {
 	list := make([]api.Text, len(t.Ids))
-	for doc, id := range t.Ids {
-		list[doc].Id = id
-		for _, term := range t.Row(doc) {
-			list[doc].Words = append(list[doc].Words, t.Terms[term])
-		}
+	for doc := range list {
+		list[doc] = t.Text(doc)
 	}
 	return list
+}
+
+// Text gives the text of one doc.
+func (t Table) Text(doc int) api.Text {
+	text := api.Text{Id: t.Ids[doc]}
+	for _, term := range t.Row(doc) {
+		text.Words = append(text.Words, t.Terms[term])
+	}
+	return text
 }
 
 // Row gives the terms of a doc, place by place, up to the first place without one.
