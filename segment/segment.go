@@ -50,9 +50,24 @@ func (s *Segment) About(dead set.Set) api.Segment {
 	}
 }
 
+// Number gives the number of the segment.
+func (s *Segment) Number() int {
+	return s.number
+}
+
+// File gives the file of its docs.
+func (s *Segment) File() []byte {
+	return pack.Write(s.docs.Texts())
+}
+
 // Len tells how many docs the segment has.
 func (s *Segment) Len() int {
 	return len(s.docs.Ids)
+}
+
+// Id gives the id of a doc.
+func (s *Segment) Id(doc int) int {
+	return s.docs.Ids[doc]
 }
 
 // Text gives a doc, with a list of words of its own.
@@ -69,7 +84,7 @@ func (s *Segment) All() set.Set {
 func (s *Segment) Ids(docs set.Set) []int {
 	var list []int
 	for doc := range docs.Places() {
-		list = append(list, s.docs.Ids[doc])
+		list = append(list, s.Id(doc))
 	}
 	return list
 }

@@ -1,6 +1,7 @@
 package sift_test
 
 import (
+	"bytes"
 	"math/rand"
 	"reflect"
 	"slices"
@@ -124,6 +125,49 @@ func (p *pair) mergeStep() {
 	}
 }
 
+func (p *pair) commitStep() {
+	switch p.random.Intn(9) {
+	case 0, 1, 2:
+		p.same("Commit", p.index.Commit(), p.model.commit())
+	case 3, 4:
+		n := []int{p.random.Intn(9), p.random.Intn(9), p.random.Intn(30), 1000, 1001, -1, 1 << 62}[p.random.Intn(7)]
+		p.same("Break", p.index.Break(n), p.model.breakBehind(n))
+	case 5, 6:
+		p.same("Recover", p.index.Recover(), p.model.recover())
+	default:
+		p.load()
+	}
+}
+
+// load makes an index of the files as they are now, and goes on with it or without it.
+func (p *pair) load() {
+	p.t.Helper()
+	c := api.Config{Buffer: 1 + p.random.Intn(8), Factor: 2 + p.random.Intn(3)}
+	names, files := filesOf(p.t, p.index)
+	p.random.Shuffle(len(names), func(i, k int) {
+		names[i], names[k] = names[k], names[i]
+		files[i], files[k] = files[k], files[i]
+	})
+	x, err := sift.Load(c, names, files)
+	if !p.model.mayBeLoaded() {
+		p.same("Load", err, api.ErrForm)
+		p.same("Load", x == nil, true)
+		return
+	}
+	p.same("Load", err, api.OK)
+	other := &pair{p.t, x, p.model.loaded(c), p.random, p.ids}
+	other.look()
+	for range p.random.Intn(4) {
+		other.step()
+	}
+	p.same("Commit", other.index.Commit(), other.model.commit())
+	other.look()
+	p.look()
+	if p.random.Intn(2) == 0 {
+		*p = *other
+	}
+}
+
 func (p *pair) search(reader, limit int) {
 	p.t.Helper()
 	query, after := p.query(), p.commonId()+p.random.Intn(3)-1
@@ -140,6 +184,11 @@ func (p *pair) search(reader, limit int) {
 // look holds all that can be seen of both against each other.
 func (p *pair) look() {
 	p.t.Helper()
+	p.lookAtFiles()
+	if p.model.disk.down {
+		wantDown(p.t, p.index)
+		return
+	}
 	count, err := p.index.Len()
 	p.same("Len", count, len(p.model.texts()))
 	p.same("Len", err, api.OK)
@@ -150,6 +199,19 @@ func (p *pair) look() {
 	}
 	for reader := range p.model.readers {
 		p.search(reader, 1+p.random.Intn(50))
+	}
+}
+
+func (p *pair) lookAtFiles() {
+	p.t.Helper()
+	names, files := filesOf(p.t, p.index)
+	if want := p.model.names(); !slices.Equal(names, want) {
+		p.t.Fatalf("Files = %q, want %q", names, want)
+	}
+	for i, name := range names {
+		if want := p.model.disk.files[name].bytes; !bytes.Equal(files[i], want) {
+			p.t.Fatalf("File(%q) = %v, want %v", name, files[i], want)
+		}
 	}
 }
 
@@ -217,13 +279,46 @@ func TestP12MergesDrawn(t *testing.T) {
 	}
 }
 
+// The same with commits, some of them broken off, and with indexes that are made of files.
+func TestP13ToP17Drawn(t *testing.T) {
+	random := rand.New(rand.NewSource(8))
+	down, recovered, far := 0, 0, 0
+	for range 150 {
+		p := drawnPair(t, random)
+		for range 80 {
+			wasDown := p.model.disk.down
+			if wasDown || random.Intn(3) == 0 {
+				p.commitStep()
+			} else {
+				p.step()
+			}
+			p.look()
+			if p.model.disk.down && !wasDown {
+				down++
+			}
+			if wasDown && !p.model.disk.down && p.model.disk.last.number > 0 {
+				recovered++
+			}
+		}
+		far = max(far, p.model.disk.last.number)
+	}
+	if down < 100 || recovered < 100 || far < 10 {
+		t.Errorf("went down %d times, came up from a commit %d times, came to the commit %d: too few for this test", down, recovered, far)
+	}
+}
+
 // Indexes do not change one another: what is done to one in turns with others is answered
 // like what is done to it alone.
 func TestP2Indexes(t *testing.T) {
 	random := rand.New(rand.NewSource(6))
 	pairs := []*pair{drawnPair(t, random), drawnPair(t, random), drawnPair(t, random)}
 	for range 600 {
-		pairs[random.Intn(3)].step()
+		p := pairs[random.Intn(3)]
+		if p.model.disk.down || random.Intn(4) == 0 {
+			p.commitStep()
+		} else {
+			p.step()
+		}
 		for _, p := range pairs {
 			p.look()
 		}

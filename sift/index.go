@@ -5,6 +5,7 @@ import (
 	"slices"
 
 	"sift/api"
+	"sift/disk"
 	"sift/segment"
 	"sift/set"
 )
@@ -12,6 +13,10 @@ import (
 // Index keeps texts.
 type Index struct {
 	settings api.Config
+	files    *disk.Disk
+	last     int          // the number of the last commit, 0 if there is none
+	fuse     fuse         // what Break set
+	down     bool         // nothing below is there then
 	gathered []api.Text   // in the rising order of their ids
 	parts    []*part      // by the numbers of their segments
 	homes    map[int]home // of the texts that are in segments, by their ids
@@ -41,7 +46,12 @@ func settingsMayBe(c api.Config) bool {
 }
 
 func emptyIndex(c api.Config) *Index {
-	return &Index{settings: c, homes: make(map[int]home)}
+	return indexOver(c, disk.New())
+}
+
+// indexOver gives an index that has files, but nothing of what they tell.
+func indexOver(c api.Config, files *disk.Disk) *Index {
+	return &Index{settings: c, files: files, homes: make(map[int]home)}
 }
 
 func (x *Index) size() int {
@@ -88,10 +98,14 @@ func (x *Index) flush() bool {
 // lay makes the newest segment, of texts in the rising order of their ids, some of which
 // may be dead.
 func (x *Index) lay(texts []api.Text, dead set.Set) {
-	p := &part{segment.Of(x.next, texts), dead}
-	x.parts = append(x.parts, p)
+	x.hold(&part{segment.Of(x.next, texts), dead})
 	x.next++
+}
+
+// hold puts a part behind the others.
+func (x *Index) hold(p *part) {
+	x.parts = append(x.parts, p)
 	for doc := range p.alive().Places() {
-		x.homes[texts[doc].Id] = home{p, doc}
+		x.homes[p.segment.Id(doc)] = home{p, doc}
 	}
 }

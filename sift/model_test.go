@@ -19,6 +19,7 @@ type model struct {
 	readers  map[int]map[int][]string
 	merging  []*modelSegment // none, if no merge is under way
 	moves    []modelMove
+	disk     modelDisk
 }
 
 // modelMove is a doc that a merge takes over from a segment.
@@ -34,7 +35,10 @@ type modelSegment struct {
 }
 
 func newModel(c api.Config) *model {
-	return &model{settings: c, gathered: map[int][]string{}, readers: map[int]map[int][]string{}}
+	return &model{
+		settings: c, gathered: map[int][]string{}, readers: map[int]map[int][]string{},
+		disk: modelDisk{files: map[string]modelFile{}},
+	}
 }
 
 // texts gives the words of all texts by their ids.

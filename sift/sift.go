@@ -4,6 +4,7 @@ package sift
 import (
 	"sift/api"
 	"sift/ask"
+	"sift/disk"
 	"sift/pack"
 	"sift/words"
 )
@@ -69,6 +70,9 @@ func New(c api.Config) (*Index, api.Errno) {
 
 // Add puts a text in (P7).
 func (x *Index) Add(id int, body string) api.Errno {
+	if x.down {
+		return api.ErrDown
+	}
 	if !idMayBe(id) {
 		return api.ErrId
 	}
@@ -89,6 +93,9 @@ func (x *Index) Add(id int, body string) api.Errno {
 
 // Delete takes a text away (P7).
 func (x *Index) Delete(id int) api.Errno {
+	if x.down {
+		return api.ErrDown
+	}
 	if !idMayBe(id) {
 		return api.ErrId
 	}
@@ -101,16 +108,25 @@ func (x *Index) Delete(id int) api.Errno {
 
 // Len tells how many texts there are (P6).
 func (x *Index) Len() (int, api.Errno) {
+	if x.down {
+		return 0, api.ErrDown
+	}
 	return x.size(), api.OK
 }
 
 // Flush makes a segment of the gathered texts (P8).
 func (x *Index) Flush() (bool, api.Errno) {
+	if x.down {
+		return false, api.ErrDown
+	}
 	return x.flush(), api.OK
 }
 
 // Segments tells of the segments (P8).
 func (x *Index) Segments() ([]api.Segment, api.Errno) {
+	if x.down {
+		return nil, api.ErrDown
+	}
 	var list []api.Segment
 	for _, p := range x.parts {
 		list = append(list, p.segment.About(p.dead))
@@ -120,6 +136,9 @@ func (x *Index) Segments() ([]api.Segment, api.Errno) {
 
 // Open opens a reader (P9).
 func (x *Index) Open() (int, api.Errno) {
+	if x.down {
+		return 0, api.ErrDown
+	}
 	reader, free := x.freeReader()
 	if !free {
 		return 0, api.ErrFull
@@ -131,6 +150,9 @@ func (x *Index) Open() (int, api.Errno) {
 
 // Close closes a reader (P9).
 func (x *Index) Close(reader int) api.Errno {
+	if x.down {
+		return api.ErrDown
+	}
 	if !x.isOpen(reader) {
 		return api.ErrReader
 	}
@@ -140,6 +162,9 @@ func (x *Index) Close(reader int) api.Errno {
 
 // Search finds texts (P10).
 func (x *Index) Search(reader int, query string, after int, limit int) (api.Found, api.Errno) {
+	if x.down {
+		return api.Found{}, api.ErrDown
+	}
 	if !x.isOpen(reader) {
 		return api.Found{}, api.ErrReader
 	}
@@ -155,6 +180,9 @@ func (x *Index) Search(reader int, query string, after int, limit int) (api.Foun
 
 // Start begins a merge (P11).
 func (x *Index) Start() (bool, api.Errno) {
+	if x.down {
+		return false, api.ErrDown
+	}
 	if x.merge != nil {
 		return false, api.ErrBusy
 	}
@@ -168,6 +196,9 @@ func (x *Index) Start() (bool, api.Errno) {
 
 // Finish ends a merge (P12).
 func (x *Index) Finish() (bool, api.Errno) {
+	if x.down {
+		return false, api.ErrDown
+	}
 	if x.merge == nil {
 		return false, api.OK
 	}
@@ -178,6 +209,9 @@ func (x *Index) Finish() (bool, api.Errno) {
 
 // Abandon gives a merge up (P12).
 func (x *Index) Abandon() (bool, api.Errno) {
+	if x.down {
+		return false, api.ErrDown
+	}
 	if x.merge == nil {
 		return false, api.OK
 	}
@@ -186,19 +220,68 @@ func (x *Index) Abandon() (bool, api.Errno) {
 }
 
 // Commit makes what there is last (P13).
-func (x *Index) Commit() api.Errno { return api.OK }
+func (x *Index) Commit() api.Errno {
+	if x.down {
+		return api.ErrDown
+	}
+	x.flush()
+	for _, step := range x.steps() {
+		if !x.fuse.spend() {
+			x.goDown()
+			return api.ErrDown
+		}
+		step()
+	}
+	return api.OK
+}
 
 // Break lets the index go down later (P14).
-func (x *Index) Break(n int) api.Errno { return api.OK }
+func (x *Index) Break(n int) api.Errno {
+	if x.down {
+		return api.ErrDown
+	}
+	if n < 0 || n > api.MaxBreak {
+		return api.ErrArg
+	}
+	x.fuse = fuse{lit: true, left: n}
+	return api.OK
+}
 
 // Recover brings the index up again (P15).
-func (x *Index) Recover() api.Errno { return api.OK }
+func (x *Index) Recover() api.Errno {
+	if !x.down {
+		return api.ErrState
+	}
+	x.comeUp()
+	return api.OK
+}
 
 // Files tells the names of all files (P16).
-func (x *Index) Files() []string { return nil }
+func (x *Index) Files() []string {
+	return x.files.Names()
+}
 
 // Load makes an index of the files of a commit (P17).
-func Load(c api.Config, names []string, files [][]byte) (*Index, api.Errno) { return nil, api.OK }
+func Load(c api.Config, names []string, files [][]byte) (*Index, api.Errno) {
+	if !settingsMayBe(c) {
+		return nil, api.ErrConfig
+	}
+	loaded, ok := disk.Of(names, files)
+	if !ok {
+		return nil, api.ErrForm
+	}
+	x, ok := load(c, loaded)
+	if !ok {
+		return nil, api.ErrForm
+	}
+	return x, api.OK
+}
 
 // File gives the bytes of a file (P16).
-func (x *Index) File(name string) ([]byte, api.Errno) { return nil, api.OK }
+func (x *Index) File(name string) ([]byte, api.Errno) {
+	file, found := x.files.Bytes(name)
+	if !found {
+		return nil, api.ErrNone
+	}
+	return file, api.OK
+}

@@ -1,12 +1,17 @@
 package wire
 
+import "math/bits"
+
 const (
 	bitsPerByte = 7
 	lowBits     = 0x7f
 	moreBit     = 0x80
-	// No number of a file has more bytes; so none grows out of an int.
-	numberBytes = 4
+	// No number that is read has more bytes; so none grows out of an int.
+	numberBytes = (bits.UintSize - 1) / bitsPerByte
 )
+
+// FourBytes is the greatest small number of four bytes.
+const FourBytes = 1<<(4*bitsPerByte) - 1
 
 // Reader reads a file from its beginning. Once something was not as it must be, it has
 // failed for good, and reads only zeros: so who reads may ask at the end alone.
@@ -30,6 +35,11 @@ func (r *Reader) Fail() {
 	r.rest = nil
 }
 
+// Failed tells whether something was not as it must be.
+func (r *Reader) Failed() bool {
+	return r.failed
+}
+
 // Done tells whether all was read and nothing failed.
 func (r *Reader) Done() bool {
 	return !r.failed && len(r.rest) == 0
@@ -44,6 +54,17 @@ func (r *Reader) Text(length int) string {
 	text := string(r.rest[:length])
 	r.rest = r.rest[length:]
 	return text
+}
+
+// Byte reads one byte as it is.
+func (r *Reader) Byte() byte {
+	if len(r.rest) == 0 {
+		r.Fail()
+		return 0
+	}
+	c := r.rest[0]
+	r.rest = r.rest[1:]
+	return c
 }
 
 // Number reads a small number that must be from least to most; having failed it gives 0.
@@ -74,7 +95,7 @@ func (r *Reader) Rising(count, most int) []int {
 func (r *Reader) small() int {
 	n := 0
 	for i := range numberBytes {
-		c := r.next()
+		c := r.Byte()
 		n |= int(c&lowBits) << (bitsPerByte * i)
 		if c&moreBit == 0 {
 			if c == 0 && i > 0 {
@@ -85,14 +106,4 @@ func (r *Reader) small() int {
 	}
 	r.Fail()
 	return 0
-}
-
-func (r *Reader) next() byte {
-	if len(r.rest) == 0 {
-		r.Fail()
-		return 0
-	}
-	c := r.rest[0]
-	r.rest = r.rest[1:]
-	return c
 }

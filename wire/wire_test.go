@@ -2,7 +2,9 @@ package wire
 
 import (
 	"bytes"
+	"math"
 	"slices"
+	"strings"
 	"testing"
 )
 
@@ -12,7 +14,8 @@ func TestNumbers(t *testing.T) {
 		want []byte
 	}{
 		{0, []byte{0}}, {1, []byte{1}}, {127, []byte{0x7f}}, {128, []byte{0x80, 1}}, {300, []byte{0xac, 2}},
-		{16383, []byte{0xff, 0x7f}}, {16384, []byte{0x80, 0x80, 1}}, {1<<28 - 1, []byte{0xff, 0xff, 0xff, 0x7f}},
+		{16383, []byte{0xff, 0x7f}}, {16384, []byte{0x80, 0x80, 1}}, {FourBytes, []byte{0xff, 0xff, 0xff, 0x7f}},
+		{1 << 28, []byte{0x80, 0x80, 0x80, 0x80, 1}}, {math.MaxInt, append(bytes.Repeat([]byte{0xff}, 8), 0x7f)},
 	} {
 		var w Writer
 		w.Number(c.n)
@@ -27,13 +30,20 @@ func TestNumbers(t *testing.T) {
 }
 
 func TestNumbersThatMayNotBe(t *testing.T) {
-	for _, list := range []string{"", "\x80", "\x80\x00", "\xff\x80\x00", "\x80\x80\x80\x80\x01", "\xff\xff\xff\xff\x7f"} {
+	nine := strings.Repeat("\xff", 9)
+	for _, list := range []string{"", "\x80", "\x80\x00", "\xff\x80\x00", "\x80\x80\x80\x80\x00", nine, nine + "\x00", nine + "\x01", nine + "\x7f", nine + nine + "\x01"} {
 		var w Writer
 		w.Text(list)
 		r := Unseal(w.Sealed())
-		if got := r.Number(0, 1<<30); got != 0 || r.Done() {
+		if got := r.Number(0, math.MaxInt); got != 0 || r.Done() || !r.Failed() {
 			t.Errorf("%q is read as %d", list, got)
 		}
+	}
+	var w Writer
+	w.Number(FourBytes + 1)
+	r := Unseal(w.Sealed())
+	if got := r.Number(0, FourBytes); got != 0 || !r.Failed() {
+		t.Errorf("a number of five bytes is read as %d, though its bound has four", got)
 	}
 	for _, bounds := range [][2]int{{0, 4}, {6, 9}, {0, -1}} {
 		var w Writer
@@ -80,7 +90,7 @@ func TestSum(t *testing.T) {
 
 func TestFailedForGood(t *testing.T) {
 	r := Unseal([]byte{5, 6, 0, 0, 0, 0})
-	if r.Number(0, 9) != 0 || r.Text(1) != "" || r.Done() {
+	if !r.Failed() || r.Number(0, 9) != 0 || r.Text(1) != "" || r.Byte() != 0 || r.Done() {
 		t.Errorf("a file with a wrong sum is read")
 	}
 	var w Writer
@@ -88,5 +98,18 @@ func TestFailedForGood(t *testing.T) {
 	r = Unseal(w.Sealed())
 	if r.Text(3) != "" || r.Text(1) != "" || r.Done() {
 		t.Errorf("more is read than there is")
+	}
+}
+
+func TestBytes(t *testing.T) {
+	var w Writer
+	w.Byte(0x80)
+	w.Byte(0)
+	r := Unseal(w.Sealed())
+	if r.Byte() != 0x80 || r.Byte() != 0 || !r.Done() || r.Failed() {
+		t.Errorf("bytes are not read as they were written")
+	}
+	if r.Byte() != 0 || !r.Failed() || r.Done() {
+		t.Errorf("a byte is read that there is not")
 	}
 }

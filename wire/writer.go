@@ -10,6 +10,11 @@ func (w *Writer) Text(text string) {
 	w.list = append(w.list, text...)
 }
 
+// Byte writes one byte as it is.
+func (w *Writer) Byte(c byte) {
+	w.list = append(w.list, c)
+}
+
 // Number writes a small number, which is 0 or above.
 func (w *Writer) Number(n int) {
 	for ; n > lowBits; n >>= bitsPerByte {
